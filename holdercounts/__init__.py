@@ -1,0 +1,1 @@
+"""A machine whose objects go when nothing holds them."""
