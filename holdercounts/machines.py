@@ -1,20 +1,17 @@
 """The calls on one machine, told as one list of whole numbers, and their answers as another."""
 
 from holdercounts.operations import NEW, NOT_REFUSED, OPERATION_ARGUMENTS, perform, refusal
-from holdercounts.records import Machine
+from holdercounts.records import Machine, sizes_together
 from holdercounts.runs import run
+from holdercounts.views import VIEW_ARGUMENTS, view
 
-# The calls ahead of these bear the numbers of their operations.
+# The calls ahead of this one bear the numbers of their operations; those behind it only look.
 RUN = 6
-REGS = 7
-
-# How many arguments stand behind the number of each call that is no operation; run tells its own.
-PLAIN_ARGUMENTS = {7: 0}
 
 
 def went(gone):
     """What went: how many, their sizes together, and their numbers."""
-    return [len(gone), sum([thing.size for thing in gone])] + [thing.number for thing in gone]
+    return [len(gone), sizes_together(gone)] + [thing.number for thing in gone]
 
 
 def operation_answer(machine, operation, arguments):
@@ -28,16 +25,6 @@ def operation_answer(machine, operation, arguments):
     return [0] + went(gone)
 
 
-def one_up(number):
-    """How what a register or a slot holds is told: 1 more than the object's number, or 0 for nothing."""
-    return 0 if number is None else number + 1
-
-
-def regs(machine):
-    """What each register holds."""
-    return [0] + [one_up(number) for number in machine.registers]
-
-
 def call_end(calls, place):
     """Where the call that begins at this place ends."""
     call = calls[place]
@@ -45,16 +32,16 @@ def call_end(calls, place):
         return place + 2 + calls[place + 1]
     if call in OPERATION_ARGUMENTS:
         return place + 1 + OPERATION_ARGUMENTS[call]
-    return place + 1 + PLAIN_ARGUMENTS[call]
+    return place + 1 + VIEW_ARGUMENTS[call]
 
 
 def answer(machine, call, arguments):
     """The answer of one call; the arguments of run have their number ahead of them."""
     if call == RUN:
         return run(machine, arguments[1:])
-    if call == REGS:
-        return regs(machine)
-    return operation_answer(machine, call, arguments)
+    if call in OPERATION_ARGUMENTS:
+        return operation_answer(machine, call, arguments)
+    return view(machine, call, arguments)
 
 
 def answers(calls):

@@ -87,6 +87,8 @@ def do_new(machine, r, kind, size, n):
     """Make an object and give it to register r; gives back what went."""
     number = least_free(machine)
     machine.held[number] = Thing(number, kind, size, n)
+    machine.made += 1
+    machine.made_sizes += size
     return put(machine, machine.registers, r, number)
 
 

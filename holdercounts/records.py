@@ -20,17 +20,24 @@ class Thing:
 
 
 class Machine:
-    """Registers, the held objects by their numbers, and the numbers of the suspects in their order."""
+    """Registers, the held objects by their numbers, the suspects' numbers in their order, and what was made in all."""
 
     def __init__(self):
         self.registers = [None] * REGISTERS
         self.held = {}
         self.suspects = []
+        self.made = 0
+        self.made_sizes = 0
 
 
 def filled(places):
     """The objects that these registers or slots hold, in order, once for each place."""
     return [number for number in places if number is not None]
+
+
+def sizes_together(things):
+    """The sizes of these objects together."""
+    return sum([thing.size for thing in things])
 
 
 def least_free(machine):

@@ -1,6 +1,7 @@
 """A list of operations, told one behind the other, and what comes of doing them."""
 
 from holdercounts.operations import NOT_REFUSED, OPERATION_ARGUMENTS, perform, refusal
+from holdercounts.records import sizes_together
 
 NOT_OPERATIONS = -12
 
@@ -38,4 +39,4 @@ def run(machine, numbers):
             break
         gone.extend(perform(machine, operation, arguments))
         done += 1
-    return [0, done, -ended_by, len(gone), sum([thing.size for thing in gone])]
+    return [0, done, -ended_by, len(gone), sizes_together(gone)]

@@ -34,7 +34,7 @@ def slot_holders(machine, numbers):
 
 
 def outside_counts(machine, field):
-    """Each object of the field with its outside count."""
+    """Each object of the field, in the field's order, with its outside count."""
     inside = slot_holders(machine, field)
     outside = {}
     for number in field:
@@ -43,16 +43,15 @@ def outside_counts(machine, field):
     return outside
 
 
-def staying(machine, field):
-    """The objects of the field that stay."""
-    outside = outside_counts(machine, field)
-    return reached(machine, [number for number in field if outside[number] != 0])
+def staying(machine, outside):
+    """The objects that stay of a field whose outside counts are these."""
+    return reached(machine, [number for number in outside if outside[number] != 0])
 
 
 def collect(machine):
     """Make a trial and let go what it finds; gives back what went, in order."""
     field = reached(machine, machine.suspects)
-    stays = staying(machine, field)
+    stays = staying(machine, outside_counts(machine, field))
     going = [number for number in field if number not in stays]
     lost = slot_holders(machine, going)
     gone = []

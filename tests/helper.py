@@ -4,6 +4,13 @@ from holdercounts.machines import answers
 
 COLLECT = [5]
 REGS = [7]
+OBJECTS = [8]
+LIVE = [9]
+WASTE = [10]
+SUSPECTS = [11]
+TRIAL = [12]
+ROW = [13]
+TOTALS = [15]
 
 LARGEST = 10 ** 18
 SMALLEST = -(10 ** 18)
@@ -27,6 +34,14 @@ def store(s, i, r):
 
 def clear(r):
     return [4, r]
+
+
+def holders(o):
+    return [14, o]
+
+
+# All that can be asked of a machine with few objects.
+VIEWS = [REGS, OBJECTS, LIVE, WASTE, SUSPECTS, TRIAL, ROW, holders(0), holders(1), TOTALS]
 
 
 def joined(lists):

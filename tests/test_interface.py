@@ -1,19 +1,20 @@
-"""The interface: the list of calls, the list of answers, and the call regs of promise 6."""
+"""The interface: the list of calls, the list of answers, and the call regs of promise 6; what holds over all calls."""
 
 import unittest
 
 from holdercounts.machines import answers
-from tests.helper import (COLLECT, REGS, SMALLEST, LARGEST, ask, chain, clear, copy, joined, last, load, loop, new, run,
-                          run_numbers, store)
+from tests.helper import (COLLECT, LARGEST, REGS, SMALLEST, VIEWS, ask, chain, clear, copy, holders, joined, last, load,
+                          loop, new, run, run_numbers, store)
 
 LINE = [new(0, 1, 10, 2), new(1, 2, 20, 1), store(0, 0, 1), store(1, 0, 0), copy(2, 1), loop(3, 5), clear(3), clear(1),
         load(4, 0, 0), run(new(5, 3, 7, 5), store(5, 4, 5), copy(6, 5), clear(5)), clear(0), clear(2), clear(4), REGS,
-        COLLECT, new(1, 0, 1), new(0, 0, 2), clear(6), COLLECT, REGS]
+        COLLECT, new(1, 0, 1), new(0, 0, 2), clear(6)] + VIEWS + [COLLECT] + VIEWS
 
 # Each is refused wherever it stands in the line above, whose register 7 never holds anything.
 REFUSED = [new(8), new(-1, 100), new(0, 100), new(0, 0, 1000001), new(0, 0, 0, 6), copy(8, 0), copy(0, -1), clear(8),
            clear(SMALLEST), load(8, 0, 0), load(0, 7, 0), store(7, 0, 0), store(0, 0, LARGEST), run_numbers([6]),
-           run_numbers([4, 0, 4]), run_numbers([4, 0, 5, -1])]
+           run_numbers([4, 0, 4]), run_numbers([4, 0, 5, -1]), holders(32), holders(-1), holders(LARGEST),
+           holders(SMALLEST), holders(9)]
 
 
 class Regs(unittest.TestCase):
@@ -38,6 +39,20 @@ class Form(unittest.TestCase):
         self.assertEqual(answers([0, 0, 1, 10, 2, 4, 0, 6, 0, 6, 1, 9]), [4, 0, 0, 0, 0, 4, 0, 1, 10, 0,
                                                                            5, 0, 0, 0, 0, 0, 1, -12])
 
+    def test_a_new_machine_asked_for_everything(self):
+        self.assertEqual(answers([7, 8, 9, 10, 11, 12, 13, 14, 0, 15]),
+                         [9, 0, 0, 0, 0, 0, 0, 0, 0, 0, 1, 0, 1, 0, 2, 0, 0, 1, 0, 1, 0, 3, 0, 0, 0, 1, -3,
+                          7, 0, 0, 0, 0, 0, 0, 0])
+
+    def test_one_object_asked_for_everything(self):
+        self.assertEqual(answers([0, 2, 3, 4, 1, 7, 8, 9, 10, 11, 12, 13, 14, 0, 15]),
+                         [4, 0, 0, 0, 0, 9, 0, 0, 0, 1, 0, 0, 0, 0, 0, 7, 0, 0, 3, 4, 1, 1, 0, 2, 0, 0, 2, 0, 0, 1, 0,
+                          1, 0, 7, 0, 1, 3, 4, 0, 1, 0, 4, 0, 1, 2, 0, 7, 0, 1, 4, 0, 0, 1, 4])
+
+    def test_any_call_may_be_the_first(self):
+        for first in VIEWS + [COLLECT, REGS, run(), clear(0), copy(1, 2), load(0, 0, 0), store(0, 0, 0)]:
+            self.assertEqual(ask(first, new(0), *VIEWS)[1:], ask(new(0), *VIEWS), first)
+
     def test_whole_numbers_in_a_list(self):
         told = answers(joined(LINE + REFUSED))
         self.assertIs(type(told), list)
@@ -53,6 +68,23 @@ class Form(unittest.TestCase):
         line = [run(*longest)] * 7 + [run(*rest), COLLECT, REGS]
         self.assertLessEqual(len(joined(line)), 16000)
         self.assertEqual(ask(*line)[1:8], [[0, 400, 0, 400, 400]] * 6 + [[0, 395, 0, 395, 395]])
+
+
+class NothingChanged(unittest.TestCase):
+    """What only looks leaves the machine as it was."""
+
+    def test_calls_behind_answer_as_without(self):
+        wanted = ask(*LINE)
+        for place in range(len(LINE) + 1):
+            for looks in [[view] for view in VIEWS + [holders(2), holders(32)]] + [VIEWS]:
+                told = ask(*LINE[:place], *looks, *LINE[place:])
+                with self.subTest(place=place, looks=looks):
+                    self.assertEqual(told[:place] + told[place + len(looks):], wanted)
+
+    def test_a_second_look_answers_as_the_first(self):
+        for place in range(len(LINE) + 1):
+            told = ask(*LINE[:place], *VIEWS, *VIEWS)[place:]
+            self.assertEqual(told[:len(VIEWS)], told[len(VIEWS):], place)
 
 
 class NothingKept(unittest.TestCase):

@@ -11,14 +11,15 @@ from holdercounts.machines import answers
 from holdercounts.operations import perform, refusal
 from holdercounts.records import Machine
 from holdercounts.trials import reached
-from tests.helper import REGS, joined, run_numbers, taken_apart
+from tests.helper import VIEWS, holders, joined, run_numbers, taken_apart
 
 ARGUMENTS = [4, 2, 3, 3, 1, 0]
 
 
 class Item:
-    def __init__(self, number, size, n):
+    def __init__(self, number, kind, size, n):
         self.number = number
+        self.kind = kind
         self.size = size
         self.slots = [None] * n
 
@@ -32,6 +33,8 @@ class Model:
         self.regs = [None] * 8
         self.items = []
         self.suspects = []
+        self.made = []
+        self.gone = []
 
     def holders(self, item, among):
         return sum(slot is item for other in among for slot in other.slots)
@@ -51,6 +54,7 @@ class Model:
             self.items.remove(item)
             self.more(item)
             gone.append(item)
+            self.gone.append(item)
             # What is gone holds nothing for count(), so those slots that are still to come are told in left.
             for place, slot in enumerate(item.slots):
                 self.less(slot, item.slots[place + 1:] + left, gone)
@@ -80,12 +84,19 @@ class Model:
             if found == row:
                 return found
 
-    def collect(self):
+    def trial(self):
+        """For each of the field: the item, its outside count, whether it stays (asked of each one by itself)."""
         field = self.reached(self.suspects)
-        stays = self.reached([item for item in field if self.count(item) != self.holders(item, field)])
-        gone = [item for item in field if item not in stays]
+        outside = [self.count(item) - self.holders(item, field) for item in field]
+        roots = [item for item, count in zip(field, outside) if count]
+        return [(item, count, any(item in self.reached([root]) for root in roots))
+                for item, count in zip(field, outside)]
+
+    def collect(self):
+        gone = [item for item, _, stays in self.trial() if not stays]
         self.items = [item for item in self.items if item not in gone]
         self.suspects = []
+        self.gone += gone
         return gone
 
     def need(self, true, number):
@@ -106,8 +117,9 @@ class Model:
             self.need(told["kind"] in range(100) and told["size"] in range(1000001) and told["n"] in range(6), -7)
             self.need(len(self.items) < 32, -9)
             number = min(set(range(32)) - {item.number for item in self.items})
-            item = Item(number, told["size"], told["n"])
+            item = Item(number, told["kind"], told["size"], told["n"])
             self.items.append(item)
+            self.made.append(item)
             return [number], self.set(self.regs, told["r"], item)
         if code == 1:
             return [], self.set(self.regs, told["r"], self.regs[told["s"]])
@@ -140,9 +152,44 @@ class Model:
             done += 1
         return [0, done, ended, len(gone), sum(item.size for item in gone)]
 
+    def up(self, places):
+        return [0 if item is None else item.number + 1 for item in places]
+
+    def row(self, rising):
+        parts = []
+        for item in rising:
+            slots = [[i, 0, rising.index(slot)] for i, slot in enumerate(item.slots) if slot]
+            parts += [item.kind, item.size, len(slots)] + joined(slots)
+        registers = [rising.index(item) for item in self.regs if item]
+        return [len(rising)] + parts + [len(registers)] + registers
+
+    def held_by(self, o, rising):
+        registers = [r for r, item in enumerate(self.regs) if item and item.number == o]
+        slots = [[item.number, i] for item in rising for i, slot in enumerate(item.slots) if slot and slot.number == o]
+        return [len(registers)] + registers + [len(slots)] + joined(slots)
+
+    def look(self, call):
+        rising = sorted(self.items, key=lambda item: item.number)
+        live = self.reached([item for item in self.regs if item])
+        waste = [item for item in rising if item not in live]
+        if call[0] == 14:
+            return [0] + self.held_by(call[1], rising) if call[1] in [item.number for item in rising] else [-3]
+        return [0] + {
+            7: lambda: self.up(self.regs),
+            8: lambda: joined([[item.number, item.kind, item.size, self.count(item), len(item.slots)]
+                               + self.up(item.slots) for item in rising]),
+            9: lambda: [item.number for item in rising if item in live],
+            10: lambda: [sum(item.size for item in waste)] + [item.number for item in waste],
+            11: lambda: [item.number for item in self.suspects],
+            12: lambda: joined([[item.number, count, int(stays)] for item, count, stays in self.trial()]),
+            13: lambda: self.row(rising),
+            15: lambda: joined([[len(items), sum(item.size for item in items)]
+                                for items in (self.made, self.gone, self.items)]),
+        }[call[0]]()
+
     def answer(self, call):
-        if call[0] == 7:
-            return [0] + [0 if item is None else item.number + 1 for item in self.regs]
+        if call[0] > 6:
+            return self.look(call)
         if call[0] == 6:
             return self.run(call[2:])
         try:
@@ -182,12 +229,15 @@ class Maker:
         """60 calls; what is made first keeps runs from ending soon, and what is cleared last leaves much to collect."""
         made = run_numbers(joined([[0, r, 1, 1, self.slots] for r in range(self.registers)]))
         cleared = [[4, r] for r in self.random.sample(range(self.registers), self.registers)]
-        return [made] + [self.call() for _ in range(58 - self.registers)] + cleared + [[5]]
+        ahead = [made] + [self.call() for _ in range(58 - self.registers - 2 * len(VIEWS))]
+        return ahead + VIEWS + cleared + VIEWS + [[5]]
 
     def call(self):
         chance = self.random.random()
         if chance < 0.1:
-            return REGS
+            return self.random.choice(VIEWS)
+        if chance < 0.15:
+            return holders(self.below(32))
         if chance < 0.4:
             numbers = joined([self.operation() for _ in range(self.random.randrange(30))])
             if self.random.random() < self.wrong:
@@ -198,7 +248,7 @@ class Maker:
 
 class AgainstTheModel(unittest.TestCase):
     def test_made_up_lines(self):
-        seen = {"refused": set(), "gone": 0, "collected": 0, "full": 0}
+        seen = {"refused": set(), "gone": 0, "collected": 0, "full": 0, "suspects": 0, "some stay": 0, "waste": 0}
         for seed in range(1500):
             maker = Maker(seed)
             line = maker.line()
@@ -214,8 +264,11 @@ class AgainstTheModel(unittest.TestCase):
                 if call[0] == 5:
                     seen["collected"] += wanted[1] > 1
                 seen["full"] += len(model.items) == 32
+                seen["suspects"] += call[0] == 11 and len(wanted) > 5
+                seen["some stay"] += call[0] == 12 and {0, 1} <= set(wanted[3::3])
+                seen["waste"] += call[0] == 10 and len(wanted) > 5
         self.assertEqual(seen["refused"], {-3, -4, -7, -9, -10, -12})
-        self.assertGreater(min(seen["gone"], seen["collected"], seen["full"]), 20)
+        self.assertGreater(min(seen[what] for what in seen if what != "refused"), 20, seen)
 
 
 class WithinTheMachine(unittest.TestCase):
