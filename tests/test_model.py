@@ -6,7 +6,7 @@ The second telling keeps no counts: it looks for all holders each time, and walk
 import random
 import unittest
 
-from holdercounts.counting import put
+from holdercounts.counting import one_less, put
 from holdercounts.machines import answers
 from holdercounts.operations import perform, refusal
 from holdercounts.records import Machine
@@ -303,6 +303,13 @@ class WithinTheMachine(unittest.TestCase):
         machine = Machine()
         self.assertEqual(put(machine, machine.registers, 0, None), [])
         self.check_no_waste(machine)
+
+    def test_of_an_object_that_is_not_held_any_more_nothing_happens(self):
+        # No line of calls is known that comes there, so it is asked of the machine itself.
+        machine = Machine()
+        perform(machine, 0, [0, 1, 2, 3])
+        self.assertEqual([thing.number for thing in one_less(machine, [0, 0, 1])], [0])
+        self.assertEqual((machine.held, machine.suspects), ({}, []))
 
 
 if __name__ == "__main__":
